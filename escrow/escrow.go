@@ -3,11 +3,14 @@ package escrow
 
 import (
 	"escrow/api"
+	"escrow/bank"
 	"escrow/frame"
 )
 
 // Bank is a bank's node, Deed a notary's.
-type Bank struct{}
+type Bank struct {
+	node bank.Bank
+}
 
 type Deed struct{}
 
@@ -21,22 +24,30 @@ func Encode(m api.Msg) (string, api.Errno) { return frame.Encode(m) }
 func Decode(s string) (api.Msg, api.Errno) { return frame.Decode(s) }
 
 // NewBank makes a bank (P6).
-func NewBank(n api.Node) (*Bank, api.Errno) { return nil, api.OK }
+func NewBank(n api.Node) (*Bank, api.Errno) {
+	node, wrong := bank.New(n)
+	if wrong != api.OK {
+		return nil, wrong
+	}
+	return &Bank{node: node}, api.OK
+}
 
 // Open opens an account (P6).
-func (b *Bank) Open(a api.Account, balance api.Amount) (string, api.Errno) { return "", api.OK }
+func (b *Bank) Open(a api.Account, balance api.Amount) (string, api.Errno) {
+	return b.node.Open(a, balance)
+}
 
 // Funds tells of an account (P6).
-func (b *Bank) Funds(a api.Account) (api.Funds, api.Errno) { return api.Funds{}, api.OK }
+func (b *Bank) Funds(a api.Account) (api.Funds, api.Errno) { return b.node.Funds(a) }
 
 // Leg tells how a leg stands (P7).
-func (b *Bank) Leg(id api.ID, leg uint8) (api.State, api.Errno) { return 0, api.OK }
+func (b *Bank) Leg(id api.ID, leg uint8) (api.State, api.Errno) { return b.node.Leg(id, leg) }
 
 // Handle takes a frame in (P7).
-func (b *Bank) Handle(frame string) ([]string, string, api.Errno) { return nil, "", api.OK }
+func (b *Bank) Handle(frame string) ([]string, string, api.Errno) { return b.node.Handle(frame) }
 
 // Tick reminds (P8).
-func (b *Bank) Tick() []string { return nil }
+func (b *Bank) Tick() []string { return b.node.Tick() }
 
 // NewDeed makes a notary (P9).
 func NewDeed() *Deed { return nil }

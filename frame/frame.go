@@ -14,6 +14,11 @@ func Encode(m api.Msg) (string, api.Errno) {
 	if wrong != api.OK {
 		return "", wrong
 	}
+	return Spell(m), api.OK
+}
+
+// Spell gives the frame of a message that is known to be right, so that who answers has no error to do with.
+func Spell(m api.Msg) string {
 	head := string([]byte{api.First, byte(m.Kind), byte(m.From), byte(m.To)})
 	id := fourBytes(uint32(m.ID))
 	leg := string([]byte{m.Leg})
@@ -24,7 +29,7 @@ func Encode(m api.Msg) (string, api.Errno) {
 	size := string([]byte{byte(len(m.Memo))})
 	body := head + id + leg + pay + get + amount + size + m.Memo
 	sum := Sum(body)
-	return body + fourBytes(sum), api.OK
+	return body + fourBytes(sum)
 }
 
 // Decode tells what a frame says.

@@ -26,12 +26,13 @@ func fault(m api.Msg) api.Errno {
 // goesItsWay tells whether a message is between the notary and a bank, in the direction of its kind.
 func goesItsWay(m api.Msg) bool {
 	if m.Kind <= api.Reject {
-		return m.From == api.Notary && isBank(m.To)
+		return m.From == api.Notary && IsBank(m.To)
 	}
-	return m.To == api.Notary && isBank(m.From)
+	return m.To == api.Notary && IsBank(m.From)
 }
 
-func isBank(n api.Node) bool {
+// IsBank tells whether a node is a bank.
+func IsBank(n api.Node) bool {
 	return n != api.Notary && n <= api.MaxBanks
 }
 

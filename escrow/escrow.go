@@ -5,6 +5,7 @@ import (
 	"escrow/api"
 	"escrow/bank"
 	"escrow/frame"
+	"escrow/notary"
 )
 
 // Bank is a bank's node, Deed a notary's.
@@ -12,7 +13,9 @@ type Bank struct {
 	node bank.Bank
 }
 
-type Deed struct{}
+type Deed struct {
+	node notary.Notary
+}
 
 // Sum gives the checksum of some bytes (P3).
 func Sum(s string) uint32 { return frame.Sum(s) }
@@ -50,22 +53,24 @@ func (b *Bank) Handle(frame string) ([]string, string, api.Errno) { return b.nod
 func (b *Bank) Tick() []string { return b.node.Tick() }
 
 // NewDeed makes a notary (P9).
-func NewDeed() *Deed { return nil }
+func NewDeed() *Deed {
+	return &Deed{node: notary.New()}
+}
 
 // Submit takes a payment in (P9).
-func (d *Deed) Submit(p api.Payment) ([]string, string, api.Errno) { return nil, "", api.OK }
+func (d *Deed) Submit(p api.Payment) ([]string, string, api.Errno) { return d.node.Submit(p) }
 
 // Handle takes a frame in (P10).
-func (d *Deed) Handle(frame string) ([]string, string, api.Errno) { return nil, "", api.OK }
+func (d *Deed) Handle(frame string) ([]string, string, api.Errno) { return d.node.Handle(frame) }
 
 // Tick lets a tick go by (P11).
-func (d *Deed) Tick() ([]string, string, api.Errno) { return nil, "", api.OK }
+func (d *Deed) Tick() ([]string, string, api.Errno) { return d.node.Tick() }
 
 // Status tells how a payment stands (P9).
-func (d *Deed) Status(id api.ID) (api.Status, api.Errno) { return api.Status{}, api.OK }
+func (d *Deed) Status(id api.ID) (api.Status, api.Errno) { return d.node.Status(id) }
 
 // Clock tells how many ticks have gone by (P11).
-func (d *Deed) Clock() uint64 { return 0 }
+func (d *Deed) Clock() uint64 { return d.node.Clock() }
 
 // RestoreBank gives a bank back by its log (P12).
 func RestoreBank(n api.Node, log string) (*Bank, api.Errno) { return nil, api.OK }

@@ -2,9 +2,9 @@ package frame
 
 import "escrow/api"
 
-// isMemo tells whether s is a memo. Characters beyond the bound, and bytes that are none, are left over alike,
+// IsMemo tells whether s is a memo. Characters beyond the bound, and bytes that are none, are left over alike,
 // so the work is bounded by MaxMemo and not by the length of s.
-func isMemo(s string) bool {
+func IsMemo(s string) bool {
 	for count := 0; count < api.MaxMemo; count++ {
 		size := characterSize(s)
 		s = s[size:]

@@ -41,7 +41,7 @@ func termsFault(m api.Msg) api.Errno {
 	if m.Amount == 0 {
 		return api.ErrAmount
 	}
-	if !isMemo(m.Memo) {
+	if !IsMemo(m.Memo) {
 		return api.ErrMemo
 	}
 	return api.OK

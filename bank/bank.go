@@ -36,7 +36,7 @@ func (b *Bank) Open(a api.Account, balance api.Amount) (string, api.Errno) {
 		return "", api.ErrFull
 	}
 	b.accounts = append(b.accounts, account{number: a, balance: balance})
-	return "", api.OK
+	return openText(a, balance), api.OK
 }
 
 // Funds tells of an account.

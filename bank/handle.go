@@ -14,12 +14,18 @@ func (b *Bank) Handle(s string) ([]string, string, api.Errno) {
 	if m.To != b.node {
 		return nil, "", api.ErrNode
 	}
+	before := b.state(m.ID, m.Leg)
 	state, wrong := b.follow(m)
 	if wrong != api.OK {
 		return nil, "", wrong
 	}
 	answer := b.report(m.ID, m.Leg, state)
-	return []string{answer}, "", api.OK
+	// Whatever a message changes, it changes the state of its leg.
+	if state == before {
+		return []string{answer}, "", api.OK
+	}
+	// Spelled anew, since the frame that was handed in is not to be given on.
+	return []string{answer}, frame.Spell(m), api.OK
 }
 
 // Tick tells the notary again of each leg that waits for its decision.

@@ -55,9 +55,18 @@ func isAhead(l, other leg) bool {
 
 // Leg tells how a leg stands.
 func (b *Bank) Leg(id api.ID, number uint8) (api.State, api.Errno) {
-	at := b.find(id, number)
-	if at >= len(b.legs) {
+	state := b.state(id, number)
+	if state == 0 {
 		return 0, api.ErrUnknown
 	}
-	return b.legs[at].state, api.OK
+	return state, api.OK
+}
+
+// state gives the state of a leg; 0, which is none, if it is not kept.
+func (b *Bank) state(id api.ID, number uint8) api.State {
+	at := b.find(id, number)
+	if at >= len(b.legs) {
+		return 0
+	}
+	return b.legs[at].state
 }

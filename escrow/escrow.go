@@ -73,7 +73,19 @@ func (d *Deed) Status(id api.ID) (api.Status, api.Errno) { return d.node.Status(
 func (d *Deed) Clock() uint64 { return d.node.Clock() }
 
 // RestoreBank gives a bank back by its log (P12).
-func RestoreBank(n api.Node, log string) (*Bank, api.Errno) { return nil, api.OK }
+func RestoreBank(n api.Node, log string) (*Bank, api.Errno) {
+	node, wrong := bank.Restore(n, log)
+	if wrong != api.OK {
+		return nil, wrong
+	}
+	return &Bank{node: node}, api.OK
+}
 
 // RestoreDeed gives a notary back by its log (P12).
-func RestoreDeed(log string) (*Deed, api.Errno) { return nil, api.OK }
+func RestoreDeed(log string) (*Deed, api.Errno) {
+	node, wrong := notary.Restore(log)
+	if wrong != api.OK {
+		return nil, wrong
+	}
+	return &Deed{node: node}, api.OK
+}

@@ -18,34 +18,52 @@ func (n *Notary) Handle(s string) ([]string, string, api.Errno) {
 	if at >= len(n.payments) {
 		return nil, "", api.ErrUnknown
 	}
-	p := n.payments[at]
-	if !p.hasLeg(m.Leg, m.From) {
+	before := n.payments[at]
+	if !before.hasLeg(m.Leg, m.From) {
 		return nil, "", api.ErrUnknown
 	}
+	p := before
 	frames, wrong := p.hear(m.Kind, m.Leg)
 	if wrong != api.OK {
 		return nil, "", wrong
 	}
 	n.payments[at] = p
-	return frames, "", api.OK
+	was := before.status()
+	if p.status() == was {
+		return frames, "", api.OK
+	}
+	// Spelled anew, since the frame that was handed in is not to be given on.
+	return frames, frame.Spell(m), api.OK
 }
 
 // Tick lets a tick go by: what is late is rejected, and all that waits for an answer is said again.
 func (n *Notary) Tick() ([]string, string, api.Errno) {
-	if n.clock >= api.MaxClock {
-		return nil, "", api.ErrTime
+	wrong := n.goOn()
+	if wrong != api.OK {
+		return nil, "", wrong
 	}
-	n.clock++
 	frames := []string{}
 	for i := range n.payments {
-		if n.payments[i].state == api.Pending && n.payments[i].asked.Deadline <= n.clock {
-			n.payments[i].state = api.Rejected
-		}
 		p := n.payments[i]
 		reminders := p.remind()
 		frames = append(frames, reminders...)
 	}
-	return frames, "", api.OK
+	return frames, tickText, api.OK
+}
+
+// goOn lets the clock go on, and rejects what is late. It stands apart from what Tick says, since a log may hold very
+// many ticks, and what they said is not to be said again.
+func (n *Notary) goOn() api.Errno {
+	if n.clock >= api.MaxClock {
+		return api.ErrTime
+	}
+	n.clock++
+	for i := range n.payments {
+		if n.payments[i].state == api.Pending && n.payments[i].asked.Deadline <= n.clock {
+			n.payments[i].state = api.Rejected
+		}
+	}
+	return api.OK
 }
 
 // hear does what a bank's word on one of the payment's legs asks. No other kind than these three goes to the notary.

@@ -36,7 +36,8 @@ func (n *Notary) Submit(p api.Payment) ([]string, string, api.Errno) {
 	}
 	fresh := payment{asked: copyOf(p), state: api.Pending}
 	n.keep(fresh)
-	return fresh.say(allLegs), "", api.OK
+	frames := fresh.say(allLegs)
+	return frames, submitText(p), api.OK
 }
 
 // Status tells how a payment stands.
@@ -46,7 +47,7 @@ func (n *Notary) Status(id api.ID) (api.Status, api.Errno) {
 		return api.Status{}, api.ErrUnknown
 	}
 	p := n.payments[at]
-	return api.Status{State: p.state, Held: p.held, Done: p.done}, api.OK
+	return p.status(), api.OK
 }
 
 // Clock tells how many ticks have gone by.

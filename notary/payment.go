@@ -62,6 +62,10 @@ func (p *payment) hasLeg(leg uint8, bank api.Node) bool {
 	return int(leg) < len(p.asked.Legs) && p.asked.Legs[leg].Bank == bank
 }
 
+func (p *payment) status() api.Status {
+	return api.Status{State: p.state, Held: p.held, Done: p.done}
+}
+
 // areAllHeld tells whether the payment may be carried out.
 func (p *payment) areAllHeld() bool {
 	for i := range p.asked.Legs {
